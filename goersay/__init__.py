@@ -1,0 +1,1 @@
+"""Goersay: rings of hands where the one who goes says how far."""

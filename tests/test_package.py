@@ -1,0 +1,136 @@
+"""The interface, and what the package may be made of."""
+
+import ast
+import builtins
+import importlib
+import inspect
+import pathlib
+import re
+import unittest
+import warnings
+
+FOLDER = pathlib.Path(__file__).resolve().parent.parent / "goersay"
+
+# As the document lists them: file by file, in the order of the stages.
+FUNCTIONS = {
+    "rests": {
+        "is_rest": ["thing"], "is_number": ["thing"], "is_name": ["thing"], "has": ["rest", "number"],
+        "both": ["one", "other"], "by": ["rest", "m"], "moved": ["rest", "k"], "least": ["rest"],
+    },
+}
+METHODS = {
+    ("rings", "Ring"): {
+        "__init__": ["names", "slips"], "names": [], "slips": [], "slip": ["name"], "order": ["begin"],
+        "next_of": ["begin"], "with_slip": ["name", "number"], "__eq__": ["other"], "__len__": [],
+    },
+}
+STAGES = ["errors", "rests", "rings"]
+
+MAY_IMPORT = {"heapq", "math", "itertools", "collections"}
+MAY_CALL = set("""len range enumerate zip min max sum abs sorted reversed int str bool list tuple dict set isinstance
+    ord repr any all divmod iter next ValueError TypeError KeyError NotImplemented""".split())
+MAY_DOUBLE = {"__init__", "__eq__", "__repr__", "__str__", "__len__"}
+BARRED_NODES = (
+    ast.Global, ast.AsyncFunctionDef, ast.Await, ast.AsyncFor, ast.AsyncWith, ast.Import, ast.Div, ast.MatMult,
+    ast.GeneratorExp, ast.Yield, ast.YieldFrom,
+)
+
+
+def files():
+    return sorted(FOLDER.glob("*.py"))
+
+
+def trees():
+    return [(path, ast.parse(path.read_text(encoding="utf-8"))) for path in files()]
+
+
+class InterfaceTest(unittest.TestCase):
+    def test_functions_are_defined_in_their_files(self):
+        for file, functions in FUNCTIONS.items():
+            module = importlib.import_module(f"goersay.{file}")
+            for name, arguments in functions.items():
+                with self.subTest(file=file, name=name):
+                    function = getattr(module, name)
+                    self.assertEqual(function.__module__, module.__name__)
+                    self.assertEqual(list(inspect.signature(function).parameters), arguments)
+
+    def test_methods_are_defined_in_their_classes(self):
+        for (file, name), methods in METHODS.items():
+            owner = getattr(importlib.import_module(f"goersay.{file}"), name)
+            self.assertEqual(owner.__module__, f"goersay.{file}")
+            for method, arguments in methods.items():
+                with self.subTest(owner=name, method=method):
+                    self.assertIn(method, vars(owner))
+                    self.assertEqual(list(inspect.signature(vars(owner)[method]).parameters)[1:], arguments)
+
+    def test_init_binds_nothing(self):
+        tree = ast.parse((FOLDER / "__init__.py").read_text(encoding="utf-8"))
+        self.assertEqual([node for node in tree.body if not isinstance(node, ast.Expr)], [])
+
+    def test_each_stage_uses_those_ahead_of_it_alone(self):
+        self.assertEqual(sorted(STAGES + ["__init__"]), [path.stem for path in files()])
+        for at, file in enumerate(STAGES):
+            text = (FOLDER / f"{file}.py").read_text(encoding="utf-8")
+            for used in re.findall(r"goersay\.(\w+)", text):
+                self.assertIn(used, STAGES[:at], f"{file} uses {used}")
+
+
+class LanguageTest(unittest.TestCase):
+    def test_the_folder_holds_python_files_alone(self):
+        for path in FOLDER.iterdir():
+            if path.name != "__pycache__":
+                self.assertRegex(path.name, r"^[a-z0-9_]+\.py$")
+
+    def test_sizes_and_signs(self):
+        for path in files():
+            text = path.read_text(encoding="utf-8")
+            self.assertRegex(text, r"\A[ -~\n]*\Z", path.name)
+            self.assertLessEqual(len(text.splitlines()), 399, path.name)
+            self.assertLessEqual(max(map(len, text.splitlines())), 120, path.name)
+
+    def test_no_warnings(self):
+        for path in files():
+            with warnings.catch_warnings():
+                warnings.simplefilter("error")
+                compile(path.read_text(encoding="utf-8"), path.name, "exec")
+
+    def test_imports(self):
+        for path, tree in trees():
+            for node in ast.walk(tree):
+                if isinstance(node, ast.ImportFrom):
+                    self.assertIn(node, tree.body, path.name)
+                    self.assertEqual(node.level, 0, path.name)
+                    if not re.fullmatch(r"goersay\.\w+", node.module):
+                        self.assertIn(node.module, MAY_IMPORT, path.name)
+
+    def test_statements(self):
+        for path, tree in trees():
+            for node in ast.walk(tree):
+                with self.subTest(path.name, line=getattr(node, "lineno", 0)):
+                    self.assertNotIsInstance(node, BARRED_NODES)
+                    if isinstance(node, ast.Constant):
+                        self.assertNotIsInstance(node.value, (float, complex, bytes))
+                        self.assertFalse(isinstance(node.value, str) and "%" in node.value)
+                    if isinstance(node, (ast.FunctionDef, ast.ClassDef)):
+                        self.assertEqual(node.decorator_list, [])
+
+    def test_functions_are_small_and_double_underscores_few(self):
+        for path, tree in trees():
+            for node in ast.walk(tree):
+                if isinstance(node, ast.FunctionDef):
+                    self.assertLessEqual(node.end_lineno - node.lineno + 1, 40, node.name)
+                    if node.name.startswith("__"):
+                        self.assertIn(node.name, MAY_DOUBLE, path.name)
+
+    def test_builtins(self):
+        for path, tree in trees():
+            for node in ast.walk(tree):
+                if isinstance(node, ast.Name) and hasattr(builtins, node.id):
+                    self.assertIsInstance(node.ctx, ast.Load, f"{path.name}: {node.id}")
+                    self.assertIn(node.id, MAY_CALL, path.name)
+                if isinstance(node, ast.arg):
+                    self.assertFalse(hasattr(builtins, node.arg), f"{path.name}: {node.arg}")
+
+
+if __name__ == "__main__":
+    unittest.main()
