@@ -55,8 +55,7 @@ def both(one, other):
 def by(rest, m):
     """The rising list of what numbers that have the rest may leave by m."""
     _check_rest(rest)
-    if not is_number(m) or not 1 <= m <= MOST_BY:
-        raise NoNumber(f"a number from 1 to {MOST_BY} is due")
+    check_between(m, 1, MOST_BY)
     shared = gcd(rest[1], m)
     return list(range(rest[0] % shared, m, shared))
 
@@ -73,6 +72,12 @@ def least(rest):
     """The least number from 0 on that has the rest."""
     _check_rest(rest)
     return rest[0]
+
+
+def check_between(thing, low, high):
+    """NoNumber of what is no number from low to high."""
+    if not is_number(thing) or not low <= thing <= high:
+        raise NoNumber(f"a number from {low} to {high} is due")
 
 
 def _check_rest(thing):

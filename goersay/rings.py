@@ -17,6 +17,19 @@ def is_names(thing):
     return len(set(thing)) == len(thing)
 
 
+def check_names(thing):
+    """NoRing of what is no list of names that a ring could have."""
+    if not is_names(thing):
+        raise NoRing(f"names have to be a list of {FEWEST} to {MOST} unlike names")
+
+
+def check_name(names, thing):
+    """NoName of what is none of these names, which are a list or a tuple."""
+    # No dict or set of the names is asked, as these can't be asked for just anything.
+    if thing not in names:
+        raise NoName(thing)
+
+
 def is_slips(names, thing):
     """Whether it is a dict of just these names to numbers."""
     if not isinstance(thing, dict) or len(thing) != len(names):
@@ -39,8 +52,7 @@ class Ring:
     """Hands seat by seat, each with a slip; it stays as it was made."""
 
     def __init__(self, names, slips):
-        if not is_names(names):
-            raise NoRing(f"names have to be a list of {FEWEST} to {MOST} unlike names")
+        check_names(names)
         if not is_slips(names, slips):
             raise NoRing("slips have to be a dict of just the names to numbers")
         self._names = list(names)
@@ -56,12 +68,12 @@ class Ring:
 
     def slip(self, name):
         """The number on this hand's slip."""
-        self._check_name(name)
+        check_name(self._names, name)
         return self._slips[name]
 
     def order(self, begin):
         """The tuple of all names as they go in a round that begins there."""
-        self._check_name(begin)
+        check_name(self._names, begin)
         goers = [begin]
         while len(goers) < len(self._names):
             goers.append(self._counted_on(goers[-1], who_sit(self._names, goers)))
@@ -74,7 +86,7 @@ class Ring:
 
     def with_slip(self, name, number):
         """Another ring, in which this hand's slip is the number."""
-        self._check_name(name)
+        check_name(self._names, name)
         if not is_number(number):
             raise NoNumber("a slip has to be a whole number")
         slips = dict(self._slips)
@@ -86,11 +98,6 @@ class Ring:
 
     def __len__(self):
         return len(self._names)
-
-    def _check_name(self, thing):
-        # The list is asked, not the dict, as a dict can't be asked for just anything.
-        if thing not in self._names:
-            raise NoName(thing)
 
     def _counted_on(self, goer, row):
         """The one of the row at the place that the goer's slip leaves by how many they are."""

@@ -17,6 +17,17 @@ FUNCTIONS = {
         "is_rest": ["thing"], "is_number": ["thing"], "is_name": ["thing"], "has": ["rest", "number"],
         "both": ["one", "other"], "by": ["rest", "m"], "moved": ["rest", "k"], "least": ["rest"],
     },
+    "orders": {
+        "rests_of": ["names", "order"], "order_by": ["names", "begin", "places"], "number_of": ["names", "order"],
+        "order_at": ["names", "begin", "number"],
+    },
+    "far": {
+        "begins": ["ring", "begin"], "begin_at": ["ring", "begin", "k"], "round_at": ["ring", "begin", "k"],
+        "lasts": ["ring", "begin", "k"],
+    },
+    "seen": {
+        "is_sighting": ["thing"], "says": ["sighting"], "sighting_of": ["ring", "begin", "*many", "*then"],
+    },
 }
 METHODS = {
     ("rings", "Ring"): {
@@ -24,7 +35,7 @@ METHODS = {
         "next_of": ["begin"], "with_slip": ["name", "number"], "__eq__": ["other"], "__len__": [],
     },
 }
-STAGES = ["errors", "rests", "rings"]
+STAGES = ["errors", "rests", "rings", "orders", "far", "seen"]
 
 MAY_IMPORT = {"heapq", "math", "itertools", "collections"}
 MAY_CALL = set("""len range enumerate zip min max sum abs sorted reversed int str bool list tuple dict set isinstance
@@ -44,6 +55,12 @@ def trees():
     return [(path, ast.parse(path.read_text(encoding="utf-8"))) for path in files()]
 
 
+def arguments_of(function):
+    """The names of the arguments, those that go by name alone with a star ahead."""
+    told = inspect.signature(function).parameters.values()
+    return [("*" if one.kind == one.KEYWORD_ONLY else "") + one.name for one in told]
+
+
 class InterfaceTest(unittest.TestCase):
     def test_functions_are_defined_in_their_files(self):
         for file, functions in FUNCTIONS.items():
@@ -52,7 +69,7 @@ class InterfaceTest(unittest.TestCase):
                 with self.subTest(file=file, name=name):
                     function = getattr(module, name)
                     self.assertEqual(function.__module__, module.__name__)
-                    self.assertEqual(list(inspect.signature(function).parameters), arguments)
+                    self.assertEqual(arguments_of(function), arguments)
 
     def test_methods_are_defined_in_their_classes(self):
         for (file, name), methods in METHODS.items():
@@ -61,7 +78,7 @@ class InterfaceTest(unittest.TestCase):
             for method, arguments in methods.items():
                 with self.subTest(owner=name, method=method):
                     self.assertIn(method, vars(owner))
-                    self.assertEqual(list(inspect.signature(vars(owner)[method]).parameters)[1:], arguments)
+                    self.assertEqual(arguments_of(vars(owner)[method])[1:], arguments)
 
     def test_init_binds_nothing(self):
         tree = ast.parse((FOLDER / "__init__.py").read_text(encoding="utf-8"))
@@ -130,6 +147,19 @@ class LanguageTest(unittest.TestCase):
                     self.assertIn(node.id, MAY_CALL, path.name)
                 if isinstance(node, ast.arg):
                     self.assertFalse(hasattr(builtins, node.arg), f"{path.name}: {node.arg}")
+
+    def test_no_name_of_an_import_or_a_class_is_taken_again(self):
+        for path, tree in trees():
+            bound = [name.asname or name.name for node in tree.body if isinstance(node, ast.ImportFrom)
+                     for name in node.names]
+            bound += [node.name for node in tree.body if isinstance(node, (ast.ClassDef, ast.FunctionDef))]
+            bound += [node.targets[0].id for node in tree.body if isinstance(node, ast.Assign)]
+            self.assertEqual(len(set(bound)), len(bound), path.name)
+            for node in ast.walk(tree):
+                if isinstance(node, ast.arg):
+                    self.assertNotIn(node.arg, bound, path.name)
+                if isinstance(node, ast.Name) and isinstance(node.ctx, ast.Store) and node.col_offset > 0:
+                    self.assertNotIn(node.id, bound, path.name)
 
 
 if __name__ == "__main__":

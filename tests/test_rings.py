@@ -6,39 +6,8 @@ import unittest
 from goersay.errors import NoName, NoNumber, NoRing
 from goersay.rings import FEWEST, MOST, Ring
 
-from things import ANYTHING, NO_NAMES, NO_NUMBERS
-
-LETTERS = "abcdefghijklmnop"
-HUGE = 10 ** 59 + 7
-
-
-def row_of(many):
-    return list(LETTERS[:many])
-
-
-def ring_of(*slips):
-    names = row_of(len(slips))
-    return Ring(names, dict(zip(names, slips)))
-
-
-def walk(seats, start, counts, places):
-    """The seat of the place-th one that counts, walking on seat by seat behind start."""
-    seat = start
-    for _ in range(places + 1):
-        seat = (seat + 1) % seats
-        while not counts(seat):
-            seat = (seat + 1) % seats
-    return seat
-
-
-def round_by_words(slips, begin):
-    """The seats as they go, and the seat that begins the next round, counted out seat by seat."""
-    n = len(slips)
-    gone = [begin]
-    while len(gone) < n:
-        sitting = n - len(gone)
-        gone.append(walk(n, gone[-1], lambda seat: seat not in gone, slips[gone[-1]] % sitting))
-    return gone, walk(n, gone[-1], lambda seat: True, slips[gone[-1]] % n)
+from rounds import HUGE, ring_of, round_by_words, row_of
+from things import ANYTHING, NO_NAMES, NO_NUMBERS, NO_ROWS
 
 
 class MakingTest(unittest.TestCase):
@@ -54,9 +23,7 @@ class MakingTest(unittest.TestCase):
                     Ring(names, slips)
 
     def test_no_list_of_unlike_names(self):
-        rows = [["a", "a"], ["a", "b", "a"], ["a", "B"], ["a", ""], ["a", None], ["a", 1], ["a", ["b"]],
-                ["a", {"b": 1}], ["a", "abcdefghi"], ["a", "b\n"], [True, False], "ab", {"a": 1, "b": 2}]
-        for names in rows + ANYTHING + [["a", thing] for thing in NO_NAMES]:
+        for names in NO_ROWS:
             for slips in ({"a": 1, "b": 2}, {}, None):
                 with self.subTest(names=names), self.assertRaises(NoRing):
                     Ring(names, slips)

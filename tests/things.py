@@ -25,3 +25,9 @@ NO_RESTS = [thing for thing in ANYTHING if thing != (0, 1)] + [
     (False, 1), (0, True), (True, 2), (False, True), (None, 1), (0, None), ("0", "1"), "01", ((0,), 1), ([0], [1]),
     (10 ** 59, 10 ** 59), (-1, 10 ** 59),
 ]
+
+# No rows of names that a ring could have: one, thirteen, one twice, what is no name, no list.
+NO_ROWS = ANYTHING + [["a", thing] for thing in NO_NAMES] + [
+    ["a"], ("b",), list("abcdefghijklm"), ["a", "a"], ["a", "b", "a"], ("a", "b", "b"), ["a", "B"], ["a", ["b"]],
+    ["a", {"b": 1}], [True, False], "ab", {"a": 1, "b": 2}, [("a", "b")], [["a", "b"], ["c"]],
+]
