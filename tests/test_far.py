@@ -78,7 +78,7 @@ class PlayedTest(unittest.TestCase):
                     counts[order[-1]] += 1
 
     def test_far_rounds(self):
-        for ring in rings_of_all_lengths():
+        for ring in rings_of_all_lengths(each=2):
             for begin in ring.names():
                 for k in FAR:
                     name, counts = doubled(ring, begin, k)

@@ -28,14 +28,34 @@ FUNCTIONS = {
     "seen": {
         "is_sighting": ["thing"], "says": ["sighting"], "sighting_of": ["ring", "begin", "*many", "*then"],
     },
+    "known": {
+        "of_rests": ["names", "rests"], "first_clash": ["names", "sightings"],
+        "is_clash": ["names", "sightings", "thing"],
+    },
+    "maycome": {
+        "next_ones": ["known", "seats", "goers"], "how_many": ["known", "seats", "begin"],
+        "order_may": ["known", "seats", "begin", "number"], "number_may": ["known", "seats", "order"],
+        "slips_for": ["known", "seats", "order"], "sure": ["known", "seats", "begin"],
+    },
+    "tworounds": {
+        "two_may": ["known", "seats", "one", "other"], "slips_for_two": ["known", "seats", "one", "other"],
+        "how_many_two": ["known", "seats", "begin"],
+    },
+    "alike": {
+        "needs": ["ring"], "alike": ["one", "other"], "least_of": ["ring"], "alike_from": ["one", "other", "begin"],
+    },
 }
 METHODS = {
     ("rings", "Ring"): {
         "__init__": ["names", "slips"], "names": [], "slips": [], "slip": ["name"], "order": ["begin"],
         "next_of": ["begin"], "with_slip": ["name", "number"], "__eq__": ["other"], "__len__": [],
     },
+    ("known", "Known"): {
+        "__init__": ["names"], "see": ["sighting"], "names": [], "rests": [], "rest": ["name"], "seen": [],
+        "fits": ["slips"], "least": [], "twin": [], "__eq__": ["other"],
+    },
 }
-STAGES = ["errors", "rests", "rings", "orders", "far", "seen"]
+STAGES = ["errors", "rests", "rings", "orders", "far", "seen", "known", "maycome", "tworounds", "alike"]
 
 MAY_IMPORT = {"heapq", "math", "itertools", "collections"}
 MAY_CALL = set("""len range enumerate zip min max sum abs sorted reversed int str bool list tuple dict set isinstance
