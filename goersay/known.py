@@ -90,7 +90,7 @@ def of_rests(names, rests):
 def first_clash(names, sightings):
     """None, or (name, one, other), of the first clash of those that are seen one by one."""
     known = Known(names)
-    _check_sightings(names, sightings)
+    check_sightings(names, sightings)
     try:
         for sighting in sightings:
             known.see(sighting)
@@ -102,7 +102,7 @@ def first_clash(names, sightings):
 def is_clash(names, sightings, thing):
     """Whether it is (name, one, other), of which these sightings say what has no number in common."""
     check_names(names)
-    _check_sightings(names, sightings)
+    check_sightings(names, sightings)
     if not isinstance(thing, tuple) or len(thing) != 3:
         return False
     name, one, other = thing
@@ -111,6 +111,15 @@ def is_clash(names, sightings, thing):
     if not 0 <= one < other < len(sightings):
         return False
     return both(_said_of(sightings[one], name), _said_of(sightings[other], name)) is None
+
+
+def check_sightings(names, thing):
+    """NoSighting(at) of the first that is none of these names, 0 of no list."""
+    if not isinstance(thing, (list, tuple)):
+        raise NoSighting(0)
+    for at, sighting in enumerate(thing):
+        if not _is_of(names, sighting):
+            raise NoSighting(at)
 
 
 def _is_of(names, thing):
@@ -127,11 +136,3 @@ def _is_rests(names, thing):
     if not isinstance(thing, dict) or len(thing) != len(names):
         return False
     return all([name in thing and is_rest(thing[name]) for name in names])
-
-
-def _check_sightings(names, thing):
-    if not isinstance(thing, (list, tuple)):
-        raise NoSighting(0)
-    for at, sighting in enumerate(thing):
-        if not _is_of(names, sighting):
-            raise NoSighting(at)

@@ -32,7 +32,7 @@ def is_rest(thing):
 def has(rest, number):
     """Whether the number leaves what the rest says."""
     _check_rest(rest)
-    _check_number(number)
+    check_number(number)
     r, m = rest
     return number % m == r
 
@@ -63,7 +63,7 @@ def by(rest, m):
 def moved(rest, k):
     """The rest of the numbers that are k greater than those that have this one."""
     _check_rest(rest)
-    _check_number(k)
+    check_number(k)
     r, m = rest
     return ((r + k) % m, m)
 
@@ -72,6 +72,12 @@ def least(rest):
     """The least number from 0 on that has the rest."""
     _check_rest(rest)
     return rest[0]
+
+
+def check_number(thing):
+    """NoNumber of what is no number."""
+    if not is_number(thing):
+        raise NoNumber("a whole number is due")
 
 
 def check_between(thing, low, high):
@@ -83,11 +89,6 @@ def check_between(thing, low, high):
 def _check_rest(thing):
     if not is_rest(thing):
         raise NoRest("a tuple (r, m) is due, r from 0 below m")
-
-
-def _check_number(thing):
-    if not is_number(thing):
-        raise NoNumber("a whole number is due")
 
 
 def _inverse(number, m):

@@ -1,7 +1,7 @@
 """Rings of hands with slips, and the rounds that they play (stage 2)."""
 
-from goersay.errors import NoName, NoNumber, NoRing
-from goersay.rests import is_name, is_number
+from goersay.errors import NoName, NoRing
+from goersay.rests import check_number, is_name, is_number
 
 FEWEST = 2
 MOST = 12
@@ -87,8 +87,7 @@ class Ring:
     def with_slip(self, name, number):
         """Another ring, in which this hand's slip is the number."""
         check_name(self._names, name)
-        if not is_number(number):
-            raise NoNumber("a slip has to be a whole number")
+        check_number(number)
         slips = dict(self._slips)
         slips[name] = number
         return Ring(self._names, slips)

@@ -44,6 +44,14 @@ FUNCTIONS = {
     "alike": {
         "needs": ["ring"], "alike": ["one", "other"], "least_of": ["ring"], "alike_from": ["one", "other", "begin"],
     },
+    "wishes": {
+        "changes_for": ["ring", "order"], "slips_wished": ["names", "sightings"], "fewest_begins": ["ring"],
+        "fewest_eyes": ["ring", "begins"],
+    },
+    "papers": {
+        "fewest_last": ["ring", "begin", "last"], "is_paper": ["ring", "begin", "last", "number", "thing"],
+    },
+    "changes": {"after": ["known", "word", "parts"]},
 }
 METHODS = {
     ("rings", "Ring"): {
@@ -55,7 +63,10 @@ METHODS = {
         "fits": ["slips"], "least": [], "twin": [], "__eq__": ["other"],
     },
 }
-STAGES = ["errors", "rests", "rings", "orders", "far", "seen", "known", "maycome", "tworounds", "alike"]
+STAGES = [
+    "errors", "rests", "rings", "orders", "far", "seen", "known", "maycome", "tworounds", "alike", "wishes", "papers",
+    "changes",
+]
 
 MAY_IMPORT = {"heapq", "math", "itertools", "collections"}
 MAY_CALL = set("""len range enumerate zip min max sum abs sorted reversed int str bool list tuple dict set isinstance
