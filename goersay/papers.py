@@ -40,7 +40,7 @@ def _start(begin):
 
 def _pairs(ring, begin):
     """All pairs (goers, name) that orders from there go by, those of fewer goers ahead."""
-    others = [name for name in sorted(ring.names()) if name != begin]
+    others = [name for name in ring.names() if name != begin]
     pairs = [_start(begin)]
     for many in range(1, len(others) + 1):
         for gone in combinations(others, many):

@@ -33,7 +33,7 @@ def fewest_begins(ring):
     """The list of the fewest begins whose rounds, then told, say of each hand as much as all rounds do."""
     names = ring.names()
     said = {begin: _moduli(names, sighting_of(ring, begin, then=True)) for begin in names}
-    needed = tuple(list(needs(ring).values()))
+    needed = tuple(needs(ring).values())
     for many in range(1, len(names)):
         # Of as many begins those whose seats are the least come first.
         for begins in combinations(names, many):

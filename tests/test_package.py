@@ -52,6 +52,11 @@ FUNCTIONS = {
         "fewest_last": ["ring", "begin", "last"], "is_paper": ["ring", "begin", "last", "number", "thing"],
     },
     "changes": {"after": ["known", "word", "parts"]},
+    "logs": {"log_of": ["house"], "first_wrong": ["log"], "slips_of": ["log"]},
+    "texts": {
+        "ring_text": ["ring"], "read_ring": ["text"], "sighting_text": ["sighting"], "read_sighting": ["text"],
+    },
+    "desk": {"answers": ["text"]},
 }
 METHODS = {
     ("rings", "Ring"): {
@@ -62,10 +67,15 @@ METHODS = {
         "__init__": ["names"], "see": ["sighting"], "names": [], "rests": [], "rest": ["name"], "seen": [],
         "fits": ["slips"], "least": [], "twin": [], "__eq__": ["other"],
     },
+    ("house", "House"): {
+        "__init__": ["names", "slips"], "do": ["deed"], "begun": [], "ring": [], "watchers": [], "known": ["watcher"],
+        "together": ["watchers"], "deeds": [], "all_done": ["deeds"], "undo": [], "twin": [], "__eq__": ["other"],
+    },
+    ("desk", "Desk"): {"__init__": [], "say": ["row"]},
 }
 STAGES = [
     "errors", "rests", "rings", "orders", "far", "seen", "known", "maycome", "tworounds", "alike", "wishes", "papers",
-    "changes",
+    "changes", "house", "logs", "texts", "desk",
 ]
 
 MAY_IMPORT = {"heapq", "math", "itertools", "collections"}
